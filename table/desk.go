@@ -6,6 +6,7 @@ import (
 	"slices"
 
 	"furlong/api"
+	"furlong/deep"
 )
 
 // desk is a copy of a state, to be changed: what was handed in stays as it was, and nothing of it is kept.
@@ -14,24 +15,7 @@ type desk struct {
 }
 
 func lay(s api.State) *desk {
-	d := &desk{s}
-	d.Queues = slices.Clone(s.Queues)
-	d.Nodes = slices.Clone(s.Nodes)
-	d.Tasks = slices.Clone(s.Tasks)
-	for t := range d.tasks() {
-		t.Tickets = slices.Clone(t.Tickets)
-	}
-	d.Leases = copyLeases(s.Leases)
-	d.Hungry = slices.Clone(s.Hungry)
-	return d
-}
-
-func copyLeases(l []api.Lease) []api.Lease {
-	l = slices.Clone(l)
-	for x := range each(l) {
-		x.Cores = slices.Clone(x.Cores)
-	}
-	return l
+	return &desk{deep.State(s)}
 }
 
 // each yields what stands in a list at its place, so that it can be changed there.

@@ -4,6 +4,7 @@ import (
 	"slices"
 
 	"furlong/api"
+	"furlong/deep"
 	"furlong/place"
 )
 
@@ -60,5 +61,5 @@ func (d *desk) renew(id, inc, beat int) api.Answer {
 		l.Until = d.Now + d.Long
 		renewed = append(renewed, *l)
 	}
-	return api.Answer{Node: id, Leases: copyLeases(renewed)}
+	return api.Answer{Node: id, Leases: deep.Leases(renewed)}
 }
